@@ -1,0 +1,1 @@
+"""Two slotted discs, one turned over the other, and the light that passes."""
