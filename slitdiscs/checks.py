@@ -1,9 +1,11 @@
 """Checks of arguments: each raises the error that the document lists for the argument."""
 
-from slitdiscs.errors import InvalidDisc, InvalidNumber, InvalidRow, InvalidTurn
+from slitdiscs.errors import InvalidDisc, InvalidLights, InvalidNumber, InvalidRow, InvalidTurn
 
 MOST_SLOTS = 40
 MOST_LIGHT = 10 ** 30
+# All slotted discs with more slots than this are too many to be listed.
+MOST_LISTED = 14
 
 
 def is_integer(value):
@@ -16,12 +18,30 @@ def has_slots(value):
     return isinstance(value, list) and 1 <= len(value) <= MOST_SLOTS
 
 
-def wrong_slot(items):
-    """Return the index of the first item that no slot of a disc can have, None if there is none."""
+def wrong_integer(items):
+    """Return the index of the first item that is no integer, None if there is none."""
     for index, item in enumerate(items):
-        if not is_integer(item) or not 0 <= item <= MOST_LIGHT:
+        if not is_integer(item):
             return index
     return None
+
+
+def wrong_light(items, most):
+    """Return the index of the first item that is no integer from 0 to the most, None if there is none."""
+    for index, item in enumerate(items):
+        if not is_integer(item) or not 0 <= item <= most:
+            return index
+    return None
+
+
+def wrong_slot(items):
+    """Return the index of the first item that no slot of a disc can have, None if there is none."""
+    return wrong_light(items, MOST_LIGHT)
+
+
+def is_row(value, slots):
+    """Return whether any value is a row of so many items."""
+    return isinstance(value, list) and len(value) == slots and wrong_integer(value) is None
 
 
 def check_disc(disc):
@@ -41,13 +61,46 @@ def check_discs(disc, other):
         raise InvalidDisc(None)
 
 
+def check_slots_at_most(disc, most):
+    """Raise InvalidDisc if a disc has more slots than this."""
+    if len(disc) > most:
+        raise InvalidDisc(None)
+
+
+def check_slotted(disc):
+    """Raise InvalidDisc unless the value is a slotted disc."""
+    if not has_slots(disc):
+        raise InvalidDisc(None)
+    index = wrong_light(disc, 1)
+    if index is not None:
+        raise InvalidDisc(index)
+
+
 def check_row(row, slots):
     """Raise InvalidRow unless the value is a row of so many items."""
     if not isinstance(row, list) or len(row) != slots:
         raise InvalidRow(None)
-    for index, item in enumerate(row):
-        if not is_integer(item):
-            raise InvalidRow(index)
+    index = wrong_integer(row)
+    if index is not None:
+        raise InvalidRow(index)
+
+
+def check_lights(lights, slots):
+    """Raise InvalidLights unless the value is a list of so many integers."""
+    if not isinstance(lights, list) or len(lights) != slots:
+        raise InvalidLights(None)
+    index = wrong_integer(lights)
+    if index is not None:
+        raise InvalidLights(index)
+
+
+def check_own_lights(lights):
+    """Raise InvalidLights unless the value is a list that own lights of a listed disc can be."""
+    if not isinstance(lights, list) or not 1 <= len(lights) <= MOST_LISTED:
+        raise InvalidLights(None)
+    for index, item in enumerate(lights):
+        if not is_integer(item) or item < 0:
+            raise InvalidLights(index)
 
 
 def check_turn(turn):
@@ -67,3 +120,15 @@ def check_count(number):
     check_number(number)
     if number < 0:
         raise InvalidNumber("the number is an integer from 0 on")
+
+
+def check_between(number, least, most):
+    """Raise InvalidNumber unless the value is an integer from the least one to the most."""
+    if not is_integer(number) or not least <= number <= most:
+        raise InvalidNumber(f"the number is an integer from {least} to {most}")
+
+
+def check_choice(slots, many):
+    """Raise InvalidNumber unless slotted discs with so many slots, so many of them open, are listed."""
+    check_between(slots, 1, MOST_LISTED)
+    check_between(many, 0, slots)

@@ -2,8 +2,8 @@
 
 import random
 
-from slitdiscs import discs, lights
-from slitdiscs.errors import InvalidDisc, InvalidNumber, InvalidRow, InvalidTurn
+from slitdiscs import discs, hidden, lights, reading, sums, twins
+from slitdiscs.errors import InvalidDisc, InvalidLights, InvalidNumber, InvalidRow, InvalidTurn
 
 MOST = 10 ** 30
 NO_INTEGERS = [
@@ -41,48 +41,95 @@ def wrong_rows():
     return found + [([5, -5, None, "x"], 2)]
 
 
+def wrong_own_lights():
+    """Return pairs of what are no own lights of up to 14 slots, and the index of the error."""
+    found = [(value, None) for value in NO_LIST_OF_SLOTS + [[0] * 15, [4] * 40, [-1] * 15, ["x"] * 15]]
+    for item in NO_INTEGERS + [-1, -MOST, -10 ** 50]:
+        found += [([item], 0), ([item, 0, 1], 0), ([0, item, 1], 1), ([0] * 13 + [item], 13)]
+    return found + [([5, -5, None, "x"], 1), ([10 ** 50, 10 ** 50, True], 2)]
+
+
+def wrong_slotted():
+    """Return pairs of what is no slotted disc of up to 14 slots, and the index of the error."""
+    found = [(value, None) for value in NO_LIST_OF_SLOTS]
+    for item in NO_INTEGERS + [-1, 2, MOST, MOST + 1, -MOST]:
+        found += [([item], 0), ([item, 0, 1], 0), ([0, item, 1], 1), ([0, 1, item], 2)]
+    found += [([0] * 39 + [2], 39), ([1] * 14 + [2], 14), ([1, 0, 3, -1], 2)]
+    return found + [([0] * 15, None), ([1] * 15, None), ([0, 1] * 20, None)]
+
+
+def wrong_short_discs():
+    """Return pairs of what is no disc of up to 12 slots, and the index of the error."""
+    long = [([0] * 13, None), ([MOST] * 13, None), ([1] * 40, None), ([0] * 12 + [-1], 12), ([1.0] + [0] * 12, 0)]
+    return wrong_discs() + long
+
+
 def without_fields(values):
     """Return pairs of wrong values and None: their errors have no index."""
     return [(value, None) for value in values]
 
 
-# For each kind of argument: right values beside a disc of four slots, the error, wrong values.
+# For each kind of argument: right values beside a disc of four slots, the error, wrong values
+# (of a value that may be any one there are none).
 KINDS = {
     "disc": ([[5, 0, 2, 0]], InvalidDisc, wrong_discs()),
+    "short disc": ([[5, 0, 2, 0]], InvalidDisc, wrong_short_discs()),
+    "slotted disc": ([[1, 0, 1, 0], [0] * 14, [1] * 14, [1]], InvalidDisc, wrong_slotted()),
     "other": ([[1, 3, 0, 0], [0, 0, 0, 0]], InvalidDisc, wrong_others()),
     "row": ([[1, -3, 10 ** 50, 0]], InvalidRow, wrong_rows()),
+    "lights": ([[5, 6, 2, 15], [-10 ** 50, 0, 1, -1], [0, 0, 0, 0]], InvalidLights, wrong_rows()),
+    "own lights": ([[2, 0, 2, 0], [10 ** 50, 0], [0] * 14, [14] * 14], InvalidLights, wrong_own_lights()),
+    "any value": ([[1, 0, -1, 0], [0, 0, 0, 0], None, (0, 0, 0, 0)], None, []),
     "turn": ([0, -1, 6, 10 ** 39 + 1], InvalidTurn, without_fields(NO_INTEGERS)),
-    "first": ([3, -10 ** 39], InvalidTurn, without_fields(NO_INTEGERS)),
-    "step": ([0, -1, 10 ** 39 + 2], InvalidTurn, without_fields(NO_INTEGERS)),
     "many": ([0, 3, 10 ** 39], InvalidNumber, without_fields(NO_INTEGERS + [-1, -10 ** 39])),
     "light": ([0, -7, 10 ** 39], InvalidNumber, without_fields(NO_INTEGERS)),
+    "slots": ([4, 14], InvalidNumber, without_fields(NO_INTEGERS + [0, -1, -4, 15, 40, 10 ** 39])),
+    "many of 4": ([4, 0, 1], InvalidNumber, without_fields(NO_INTEGERS + [-1, 5, 14, -10 ** 39, 10 ** 39])),
 }
 
-# The functions that list errors for their arguments, with the names of these.
+# The functions that list errors for their arguments, with the names of these and their kinds.
 FUNCTIONS = [
-    (discs.turned_disc, ["disc", "turn"]),
-    (discs.mirrored_disc, ["disc"]),
-    (discs.disc_period, ["disc"]),
-    (discs.turn_between, ["disc", "other"]),
-    (discs.least_disc, ["disc"]),
-    (discs.like_form, ["disc"]),
-    (discs.are_like, ["disc", "other"]),
-    (lights.light_at, ["disc", "other", "turn"]),
-    (lights.all_lights, ["disc", "other"]),
-    (lights.row_lights, ["disc", "row"]),
-    (lights.brightest_turns, ["disc", "other"]),
-    (lights.light_sum, ["disc", "other", "first", "step", "many"]),
-    (lights.first_bright, ["disc", "other", "first", "step", "light"]),
+    (discs.turned_disc, {"disc": "disc", "turn": "turn"}),
+    (discs.mirrored_disc, {"disc": "disc"}),
+    (discs.disc_period, {"disc": "disc"}),
+    (discs.turn_between, {"disc": "disc", "other": "other"}),
+    (discs.least_disc, {"disc": "disc"}),
+    (discs.like_form, {"disc": "disc"}),
+    (discs.are_like, {"disc": "disc", "other": "other"}),
+    (lights.light_at, {"disc": "disc", "other": "other", "turn": "turn"}),
+    (lights.all_lights, {"disc": "disc", "other": "other"}),
+    (lights.row_lights, {"disc": "disc", "row": "row"}),
+    (lights.brightest_turns, {"disc": "disc", "other": "other"}),
+    (lights.light_sum, {"disc": "disc", "other": "other", "first": "turn", "step": "turn", "many": "many"}),
+    (lights.first_bright, {"disc": "disc", "other": "other", "first": "turn", "step": "turn", "light": "light"}),
+    (hidden.is_telling, {"disc": "disc"}),
+    (hidden.blind_divisors, {"disc": "disc"}),
+    (hidden.hidden_rows, {"disc": "disc"}),
+    (hidden.hidden_count, {"disc": "disc"}),
+    (hidden.is_hidden, {"disc": "disc", "value": "any value"}),
+    (reading.reading_row, {"disc": "disc"}),
+    (reading.read_row, {"disc": "disc", "lights": "lights"}),
+    (reading.lights_fault, {"disc": "disc", "lights": "lights"}),
+    (reading.first_row, {"disc": "short disc", "lights": "lights"}),
+    (sums.is_sure, {"disc": "disc", "row": "row"}),
+    (sums.sure_rows, {"disc": "disc"}),
+    (sums.read_sum, {"disc": "disc", "lights": "lights", "row": "row"}),
+    (sums.alike_lights, {"disc": "disc", "other": "other"}),
+    (twins.own_lights, {"disc": "disc"}),
+    (twins.are_twins, {"disc": "disc", "other": "other"}),
+    (twins.twin_discs, {"disc": "slotted disc"}),
+    (twins.disc_with, {"lights": "own lights"}),
+    (twins.twin_count, {"slots": "slots", "many": "many of 4"}),
+    (twins.form_count, {"slots": "slots", "many": "many of 4"}),
 ]
 
 
 def right_calls():
     """Return pairs of a function and a list of right arguments for it."""
     found = []
-    for function, names in FUNCTIONS:
-        longest = max(len(KINDS[name][0]) for name in names)
-        for turn in range(longest):
-            values = [KINDS[name][0] for name in names]
+    for function, kinds in FUNCTIONS:
+        values = [KINDS[kind][0] for kind in kinds.values()]
+        for turn in range(max(len(row) for row in values)):
             found.append((function, [row[turn % len(row)] for row in values]))
     return found
 

@@ -4,7 +4,7 @@ import copy
 import inspect
 import unittest
 
-from slitdiscs import discs, lights
+from slitdiscs import discs, hidden, lights, reading, sums, twins
 from tests.samples import FUNCTIONS, right_calls
 
 INTERFACE = {
@@ -19,7 +19,62 @@ INTERFACE = {
         "light_sum": ["disc", "other", "first", "step", "many"],
         "first_bright": ["disc", "other", "first", "step", "light"],
     },
+    hidden: {
+        "is_telling": ["disc"], "blind_divisors": ["disc"], "hidden_rows": ["disc"], "hidden_count": ["disc"],
+        "is_hidden": ["disc", "value"],
+    },
+    reading: {
+        "reading_row": ["disc"], "read_row": ["disc", "lights"], "lights_fault": ["disc", "lights"],
+        "first_row": ["disc", "lights"],
+    },
+    sums: {
+        "is_sure": ["disc", "row"], "sure_rows": ["disc"], "read_sum": ["disc", "lights", "row"],
+        "alike_lights": ["disc", "other"],
+    },
+    twins: {
+        "own_lights": ["disc"], "are_twins": ["disc", "other"], "twin_discs": ["disc"], "disc_with": ["lights"],
+        "twin_count": ["slots", "many"], "form_count": ["slots", "many"],
+    },
 }
+
+# Functions with lists in their answers, and calls of them that return some.
+LISTS = [
+    (hidden.blind_divisors, [[1, 1, 1, 1]]),
+    (hidden.hidden_rows, [[1, 0, 1, 0]]),
+    (hidden.hidden_rows, [[0, 0, 0]]),
+    (hidden.hidden_rows, [[5]]),
+    (hidden.hidden_rows, [[0]]),
+    (reading.reading_row, [[1, 1, 0, 1, 0, 0, 0]]),
+    (reading.reading_row, [[1]]),
+    (reading.reading_row, [[1, 0, 0]]),
+    (reading.read_row, [[1, 0, 0], [1, 0, 0]]),
+    (reading.read_row, [[1], [1]]),
+    (reading.lights_fault, [[1, 0, 1, 0], [5, 3, 4, 3]]),
+    (reading.lights_fault, [[0], [1]]),
+    (reading.lights_fault, [[1, 0, 1, 0], [1, 0, -1, 0]]),
+    (reading.first_row, [[1, 0, 1, 0], [5, 3, 5, 3]]),
+    (reading.first_row, [[1, 0, 0], [1, 0, 0]]),
+    (reading.first_row, [[0, 0], [0, 0]]),
+    (sums.sure_rows, [[1, 0, 1, 0]]),
+    (sums.sure_rows, [[1]]),
+    (sums.sure_rows, [[1, 1, 1]]),
+    (twins.own_lights, [[1]]),
+    (twins.own_lights, [[1, 0, 0]]),
+    (twins.twin_discs, [[1, 1, 1, 0, 0, 1, 0, 0]]),
+    (twins.twin_discs, [[0, 0, 1]]),
+    (twins.disc_with, [[1]]),
+    (twins.disc_with, [[0, 0]]),
+    (twins.disc_with, [[2, 0, 2, 0]]),
+]
+
+
+def lists_of(value):
+    """Return all lists within a value, itself included."""
+    found = [value] if isinstance(value, list) else []
+    if isinstance(value, (list, tuple)):
+        for item in value:
+            found += lists_of(item)
+    return found
 
 
 class InterfaceTest(unittest.TestCase):
@@ -46,6 +101,7 @@ class ConventionTest(unittest.TestCase):
                 self.assertEqual(function(**named), function(*arguments))
         self.assertIs(discs.is_disc(value=[1]), True)
         self.assertIs(discs.is_slotted(value=[2]), False)
+        self.assertIs(hidden.is_hidden(value=[1, 0, -1, 0], disc=[1, 0, 1, 0]), True)
 
     def test_arguments_stay_as_they_are(self):
         for function, arguments in right_calls():
@@ -59,6 +115,7 @@ class ConventionTest(unittest.TestCase):
             before = copy.deepcopy(value)
             discs.is_disc(value)
             discs.is_slotted(value)
+            hidden.is_hidden([1, 0, 1], value)
             self.assertEqual(value, before)
 
     def test_returned_lists_are_new(self):
@@ -69,10 +126,25 @@ class ConventionTest(unittest.TestCase):
                     continue
                 kept = list(found)
                 self.assertFalse(any(found is value for value in arguments))
-                found[0] = "changed"
+                found.insert(0, "changed")
                 found.append("more")
                 self.assertEqual(function(*arguments), kept)
                 self.assertNotIn("changed", arguments[0])
+
+    def test_all_lists_of_an_answer_are_new(self):
+        for function, arguments in LISTS:
+            with self.subTest(function.__name__, arguments=arguments):
+                before = copy.deepcopy(arguments)
+                found = function(*arguments)
+                lists = lists_of(found)
+                self.assertGreater(len(lists), 0)
+                kept = copy.deepcopy(found)
+                numbers = [id(value) for value in lists + lists_of(arguments)]
+                self.assertEqual(len(numbers), len(set(numbers)))
+                for value in lists:
+                    value.insert(0, "changed")
+                self.assertEqual(arguments, before)
+                self.assertEqual(function(*arguments), kept)
 
     def test_lists_are_new_where_nothing_changes(self):
         for disc in ([7], [0, 0, 0], [0, 0, 1]):
@@ -103,11 +175,24 @@ class ConventionTest(unittest.TestCase):
 
     def test_kinds_of_answers(self):
         disc, other = [5, 0, 2, 0], [0, 5, 0, 2]
-        for value in (discs.is_disc(disc), discs.is_slotted(disc), discs.are_like(disc, other)):
+        truths = [
+            discs.is_disc(disc), discs.is_slotted(disc), discs.are_like(disc, other), hidden.is_telling(disc),
+            hidden.is_telling([0]), hidden.is_hidden(disc, disc), hidden.is_hidden(disc, None),
+            hidden.is_hidden(disc, [0, 0, 0, 0]), sums.is_sure(disc, [-1, 0, 0, 0]), sums.is_sure([0], [1]),
+            sums.alike_lights(disc, other), twins.are_twins(disc, other),
+        ]
+        for value in truths:
             self.assertIs(type(value), bool)
         numbers = [
             discs.disc_period(disc), discs.turn_between(disc, other), lights.light_at(disc, other, 1),
             lights.light_sum(disc, other, 0, 1, 0), lights.first_bright(disc, other, 0, 1, 0),
+            hidden.hidden_count(disc), hidden.hidden_count([0]), twins.twin_count(4, 2), twins.form_count(4, 2),
         ]
         for value in numbers:
             self.assertIs(type(value), int)
+        row, bottom = reading.reading_row(disc)
+        top, under = sums.read_sum(disc, [1, 2, 3, 4], [1, 0, 0, 0])
+        for value in [bottom, top, under, *row, *sums.sure_rows(disc)[0], *twins.own_lights(disc)]:
+            self.assertIs(type(value), int)
+        self.assertIs(type(reading.reading_row(disc)), tuple)
+        self.assertIs(type(sums.read_sum(disc, [1, 2, 3, 4], [1, 0, 0, 0])), tuple)

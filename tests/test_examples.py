@@ -42,6 +42,75 @@ LIGHTS = """
 [0, 2, 2, None]
 """
 
+HIDDEN = """
+>>> from slitdiscs.hidden import blind_divisors, hidden_count, hidden_rows, is_hidden, is_telling
+>>> discs = [[1, 1, 0, 1, 0, 0, 0], [1, 0, 1, 0], [1, 1, 0, 0], [1, 1, 1, 1], [0, 0, 0]]
+>>> [is_telling(disc) for disc in discs], [blind_divisors(disc) for disc in discs], [hidden_count(disc) for disc in discs]
+([True, False, False, False, False], [[], [4], [2], [2, 4], [1, 3]], [0, 2, 1, 3, 3])
+>>> [hidden_rows(disc) for disc in discs[1:4]]
+[[[1, 0, -1, 0], [0, 1, 0, -1]], [[1, -1, 1, -1]], [[1, 0, 0, -1], [0, 1, 0, -1], [0, 0, 1, -1]]]
+>>> hidden_rows([1, 1, 1, 0, 0, 0]), hidden_rows([10 ** 30, 0, 10 ** 30])
+([[1, 0, -1, 1, 0, -1], [0, 1, -1, 0, 1, -1]], [])
+>>> [is_hidden([1, 0, 1, 0], value) for value in ([1, -2, -1, 2], [0, 0, 0, 0], [1, 0, 1, 0], [1, 0, -1], (1, 0, -1, 0), None)]
+[True, True, False, False, False, False]
+"""
+
+READING = """
+>>> from slitdiscs.reading import read_row, reading_row
+>>> disc = [1, 1, 0, 1, 0, 0, 0]
+>>> reading_row(disc), reading_row([2, 1]), reading_row([10 ** 30])
+(([2, 2, -1, 2, -1, -1, -1], 6), ([2, -1], 3), ([1], 1000000000000000000000000000000))
+>>> read_row(disc, [1, 1, 0, 1, 0, 0, 0]), read_row(disc, [1, 0, 0, 0, 0, 0, 0]), read_row([2, 1], [4, 5])
+([1, 0, 0, 0, 0, 0, 0], None, [1, 2])
+>>> reading_row([1, 0, 1, 0])
+raises Impossible
+"""
+
+FAULTS = """
+>>> from slitdiscs.reading import first_row, lights_fault
+>>> disc = [1, 0, 1, 0]
+>>> first_row(disc, [5, 3, 5, 3]), first_row(disc, [5, 3, 4, 3]), first_row([2, 0], [1, 0]), first_row([1, 1, 0, 0], [4, 7, 6, 3])
+([0, 0, 5, 3], None, None, [0, 4, -1, 7])
+>>> lights_fault(disc, [5, 3, 5, 3]), lights_fault([2, 0], [1, 0]), lights_fault(disc, [5, 3, 4, 3]) is None
+(None, None, False)
+"""
+
+SUMS = """
+>>> from slitdiscs.sums import alike_lights, is_sure, read_sum, sure_rows
+>>> disc = [1, 0, 1, 0]
+>>> [is_sure(disc, row) for row in ([1, 0, 1, 0], [1, 0, 0, 0], [2, -1, 2, -1], [0, 0, 0, 0])], sure_rows(disc), sure_rows([1, 1, 1, 1]), sure_rows([0, 0, 0])
+([True, False, True, True], [[1, 0, 1, 0], [0, 1, 0, 1]], [[1, 1, 1, 1]], [])
+>>> read_sum(disc, [5, 3, 5, 3], [2, -1, 2, -1]), read_sum([2, 0], [1, 0], [1, 0]), read_sum([1, 1, 0, 1, 0, 0, 0], [1, 0, 0, 0, 0, 0, 0], [1] * 7)
+((7, 1), (1, 2), (1, 3))
+>>> alike_lights(disc, [3, 1, 3, 1]), alike_lights(disc, [1, 1, 0, 0])
+(True, False)
+>>> read_sum(disc, [5, 3, 5, 3], [1, 0, 0, 0])
+raises Impossible
+"""
+
+TWINS = """
+>>> from slitdiscs.twins import are_twins, disc_with, own_lights, twin_discs
+>>> own_lights([1, 1, 0, 1, 0, 0, 0]), own_lights([1, 0, 1, 0]), own_lights([2, 5])
+([3, 1, 1, 1, 1, 1, 1], [2, 0, 2, 0], [29, 20])
+>>> first, second = [1, 1, 0, 1, 1, 0, 0, 0], [1, 1, 1, 0, 0, 1, 0, 0]
+>>> own_lights(first), are_twins(first, second), are_twins(first, first), are_twins(first, [1, 1, 0, 0, 0, 1, 1, 0])
+([4, 2, 1, 2, 2, 2, 1, 2], True, False, False)
+>>> twin_discs(first), twin_discs([1, 1, 0, 1, 0, 0, 0])
+([[0, 0, 0, 1, 1, 0, 1, 1], [0, 0, 1, 0, 0, 1, 1, 1]], [[0, 0, 0, 1, 0, 1, 1]])
+>>> [disc_with(lights) for lights in ([4, 2, 1, 2, 2, 2, 1, 2], [3, 1, 1, 1, 1, 1, 1], [2, 0, 1, 0], [0, 0])]
+[[0, 0, 0, 1, 1, 0, 1, 1], [0, 0, 0, 1, 0, 1, 1], None, [0, 0]]
+>>> twin_discs([1, 0, 2])
+raises InvalidDisc(index=2)
+"""
+
+COUNTS = """
+>>> from slitdiscs.twins import form_count, twin_count
+>>> [twin_count(8, 4), form_count(8, 4)], [twin_count(7, 3), form_count(7, 3)], [twin_count(5, 0), form_count(1, 1)]
+([7, 8], [4, 4], [1, 1])
+>>> twin_count(15, 2)
+raises InvalidNumber
+"""
+
 
 def answer(source, names):
     """Return what is printed for a line: an answer, `raises ..`, or nothing for a statement."""
@@ -75,6 +144,24 @@ class ExampleTest(unittest.TestCase):
 
     def test_lights(self):
         self.check(LIGHTS)
+
+    def test_hidden(self):
+        self.check(HIDDEN)
+
+    def test_reading(self):
+        self.check(READING)
+
+    def test_faults(self):
+        self.check(FAULTS)
+
+    def test_sums(self):
+        self.check(SUMS)
+
+    def test_twins(self):
+        self.check(TWINS)
+
+    def test_counts(self):
+        self.check(COUNTS)
 
     def test_readme(self):
         readme = pathlib.Path(__file__).resolve().parent.parent / "README.md"

@@ -1,9 +1,13 @@
-"""[3], [10], [11]: wrong arguments, alone and several at once, and what the error says."""
+"""[3], [10] to [17]: wrong arguments, alone and several at once, and what the error says."""
 
 import copy
 import itertools
 import unittest
 
+from slitdiscs.errors import Impossible, InvalidDisc, InvalidLights, InvalidNumber, InvalidRow
+from slitdiscs.reading import first_row, lights_fault, read_row, reading_row
+from slitdiscs.sums import is_sure, read_sum
+from slitdiscs.twins import form_count, twin_count
 from tests.samples import FUNCTIONS, KINDS
 
 
@@ -22,45 +26,82 @@ class WrongTest(unittest.TestCase):
                 if isinstance(value, (list, dict)):
                     self.assertEqual(repr(value), repr(content))
 
-    def right(self, names):
-        return [copy.copy(KINDS[name][0][0]) for name in names]
+    def right(self, kinds):
+        return [copy.copy(KINDS[kind][0][0]) for kind in kinds]
 
     def test_each_argument_wrong_alone(self):
         for function, names in FUNCTIONS:
-            for place, name in enumerate(names):
-                _, error, wrong = KINDS[name]
+            kinds = list(names.values())
+            for place, kind in enumerate(kinds):
+                _, error, wrong = KINDS[kind]
                 for value, index in wrong:
-                    arguments = self.right(names)
+                    arguments = self.right(kinds)
                     arguments[place] = value
-                    if name == "disc" and "other" in names and isinstance(value, list) and value:
+                    if place == 0 and "other" in names and isinstance(value, list) and value:
                         # As many slots, so that the disc alone is wrong.
                         arguments[1] = [0] * len(value)
                     self.check_raises(function, arguments, error, index)
 
     def test_two_arguments_wrong(self):
         for function, names in FUNCTIONS:
-            for first, second in itertools.combinations(range(len(names)), 2):
-                _, error, wrong = KINDS[names[first]]
-                for (value, index), (later, _) in itertools.product(wrong, KINDS[names[second]][2][::7]):
-                    arguments = self.right(names)
+            kinds = list(names.values())
+            for first, second in itertools.combinations(range(len(kinds)), 2):
+                _, error, wrong = KINDS[kinds[first]]
+                for (value, index), (later, _) in itertools.product(wrong, KINDS[kinds[second]][2][::7]):
+                    arguments = self.right(kinds)
                     arguments[first], arguments[second] = value, later
                     self.check_raises(function, arguments, error, index)
 
     def test_all_arguments_wrong(self):
         for function, names in FUNCTIONS:
-            for first in range(len(names)):
-                arguments = self.right(names[:first]) + [None for _ in names[first:]]
-                self.check_raises(function, arguments, KINDS[names[first]][1], None)
+            kinds = list(names.values())
+            for first, kind in enumerate(kinds):
+                if KINDS[kind][2]:
+                    arguments = self.right(kinds[:first]) + [None for _ in kinds[first:]]
+                    self.check_raises(function, arguments, KINDS[kind][1], None)
 
     def test_other_slots_are_told_before_the_turn(self):
         for function, names in FUNCTIONS:
             if "other" in names and len(names) > 2:
-                arguments = [[1, 0, 1], [1, 0]] + ["x" for _ in names[2:]]
-                self.check_raises(function, arguments, KINDS["disc"][1], None)
+                arguments = [[1, 0, 1], [1, 0]] + ["x" for _ in list(names)[2:]]
+                self.check_raises(function, arguments, InvalidDisc, None)
 
     def test_wrong_items_are_told_before_the_number_of_slots(self):
         for function, names in FUNCTIONS:
             if "other" in names:
-                rest = self.right(names[2:])
-                self.check_raises(function, [[1, 0, 1], [1, -1]] + rest, KINDS["disc"][1], 1)
-                self.check_raises(function, [[1, 0, 1], [1, 0, 1, 0, None]] + rest, KINDS["disc"][1], 4)
+                rest = self.right(list(names.values())[2:])
+                self.check_raises(function, [[1, 0, 1], [1, -1]] + rest, InvalidDisc, 1)
+                self.check_raises(function, [[1, 0, 1], [1, 0, 1, 0, None]] + rest, InvalidDisc, 4)
+
+    def test_too_many_slots_are_told_before_the_lights(self):
+        for lights in (None, [0] * 12, ["x"] * 13, [0] * 13):
+            self.check_raises(first_row, [[1] + [0] * 12, lights], InvalidDisc, None)
+        self.check_raises(first_row, [[1] + [0] * 11 + [-1], None], InvalidDisc, 12)
+
+    def test_lights_and_rows_are_as_long_as_the_disc(self):
+        for slots in (1, 2, 12):
+            disc, short, long = [1] + [0] * (slots - 1), [0] * (slots - 1), [0] * (slots + 1)
+            for wrong in (short, long):
+                for function in (read_row, lights_fault, first_row):
+                    self.check_raises(function, [disc, wrong], InvalidLights, None)
+                self.check_raises(is_sure, [disc, wrong], InvalidRow, None)
+                self.check_raises(read_sum, [disc, wrong, disc], InvalidLights, None)
+                self.check_raises(read_sum, [disc, disc, wrong], InvalidRow, None)
+
+    def test_slots_are_told_before_the_open_ones(self):
+        for function in (twin_count, form_count):
+            for slots, many in [(0, 0), (15, 2), (15, 15), (-1, -1), (14, 15), (1, 2), (4, -1), (14, None)]:
+                self.check_raises(function, [slots, many], InvalidNumber, None)
+
+    def test_impossible_comes_last(self):
+        blind = [1, 0, 1, 0]
+        self.check_raises(read_row, [blind, [5, 3, 5]], InvalidLights, None)
+        self.check_raises(read_row, [blind, [5, 3, 5, "x"]], InvalidLights, 3)
+        self.check_raises(read_row, [blind, [5, 3, 5, 3]], Impossible, None)
+        self.check_raises(reading_row, [blind], Impossible, None)
+        self.check_raises(reading_row, [blind + [None]], InvalidDisc, 4)
+        self.check_raises(read_sum, [blind, [5, 3, 4, 3], [1, 0, True, 0]], InvalidRow, 2)
+        self.check_raises(read_sum, [blind, [5, 3, 4], [1, 0, 0, 0]], InvalidLights, None)
+        self.check_raises(read_sum, [blind, [5, 3, 5, 3], [1, 0, 0, 0]], Impossible, None)
+        self.check_raises(read_sum, [blind, [5, 3, 4, 3], [1, 0, 1, 0]], Impossible, None)
+        self.check_raises(read_sum, [blind, [5, 3, 4, 3], [1, 0, 0, 0]], Impossible, None)
