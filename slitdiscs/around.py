@@ -21,3 +21,15 @@ def light_between(disc, row, turn):
 def lights_between(disc, row):
     """Return the new list of the lights at the turns 0, 1 and so on."""
     return [light_between(disc, row, turn) for turn in range(len(disc))]
+
+
+def multiplied_list(items, factor):
+    """Return the new list that has at factor * i what the list has at i.
+
+    The factor has no divisor above 1 in common with the number of items.
+    """
+    size = len(items)
+    found = list(items)
+    for slot, item in enumerate(items):
+        found[factor * slot % size] = item
+    return found

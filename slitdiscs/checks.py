@@ -1,9 +1,12 @@
 """Checks of arguments: each raises the error that the document lists for the argument."""
 
-from slitdiscs.errors import InvalidDisc, InvalidLights, InvalidNumber, InvalidRow, InvalidTurn
+from math import gcd
+
+from slitdiscs.errors import InvalidDisc, InvalidLights, InvalidLooks, InvalidNumber, InvalidRow, InvalidTurn
 
 MOST_SLOTS = 40
 MOST_LIGHT = 10 ** 30
+MOST_LOOKS = 40
 # All slotted discs with more slots than this are too many to be listed.
 MOST_LISTED = 14
 
@@ -37,6 +40,11 @@ def wrong_light(items, most):
 def wrong_slot(items):
     """Return the index of the first item that no slot of a disc can have, None if there is none."""
     return wrong_light(items, MOST_LIGHT)
+
+
+def is_look(value):
+    """Return whether any value is a tuple of a turn and a light from 0 on."""
+    return isinstance(value, tuple) and len(value) == 2 and wrong_integer(value) is None and value[1] >= 0
 
 
 def is_row(value, slots):
@@ -103,6 +111,15 @@ def check_own_lights(lights):
             raise InvalidLights(index)
 
 
+def check_looks(looks):
+    """Raise InvalidLooks unless the value is a list of looks, not too many."""
+    if not isinstance(looks, list) or len(looks) > MOST_LOOKS:
+        raise InvalidLooks(None)
+    for index, look in enumerate(looks):
+        if not is_look(look):
+            raise InvalidLooks(index)
+
+
 def check_turn(turn):
     """Raise InvalidTurn unless the value is an integer."""
     if not is_integer(turn):
@@ -126,6 +143,13 @@ def check_between(number, least, most):
     """Raise InvalidNumber unless the value is an integer from the least one to the most."""
     if not is_integer(number) or not least <= number <= most:
         raise InvalidNumber(f"the number is an integer from {least} to {most}")
+
+
+def check_factor(factor, slots):
+    """Raise InvalidNumber unless a disc with so many slots can be multiplied by the value."""
+    check_number(factor)
+    if gcd(factor, slots) != 1:
+        raise InvalidNumber("the factor has a divisor in common with the number of slots")
 
 
 def check_choice(slots, many):

@@ -7,7 +7,8 @@ from slitdiscs.around import lights_between
 from slitdiscs.checks import (
     MOST_LISTED, check_choice, check_disc, check_discs, check_own_lights, check_slots_at_most, check_slotted,
 )
-from slitdiscs.discs import are_like, like_form
+from slitdiscs.discs import are_like
+from slitdiscs.openings import opened_forms, opened_lights
 
 
 def own_lights(disc):
@@ -39,7 +40,7 @@ def disc_with(lights):
 def twin_count(slots, many):
     """Return how many unlike own lights the slotted discs with so many open slots have."""
     check_choice(slots, many)
-    return len({tuple(_opened_lights(opened, slots)) for opened in combinations(range(slots), many)})
+    return len({tuple(opened_lights(opened, slots)) for opened in combinations(range(slots), many)})
 
 
 def form_count(slots, many):
@@ -54,28 +55,13 @@ def form_count(slots, many):
 def _forms_with(lights):
     if lights[0] > len(lights):
         return []
-    discs = [_opened_disc(opened, len(lights)) for opened in _openings(lights, lights[0])]
-    # Like discs have the same own lights, so each form is itself among the discs.
-    return sorted([disc for disc in discs if like_form(disc) == disc])
+    # Like discs have the same own lights, so the form of each disc is itself among them.
+    return opened_forms(_openings(lights, lights[0]), len(lights))
 
 
 def _openings(lights, many):
     slots = len(lights)
-    return [opened for opened in combinations(range(slots), many) if _opened_lights(opened, slots) == lights]
-
-
-def _opened_disc(opened, slots):
-    return [1 if slot in opened else 0 for slot in range(slots)]
-
-
-def _opened_lights(opened, slots):
-    # Two open slots are over one another at the turn that leads from one to the other.
-    # An index below 0 counts from the end of the list, just as a turn below 0 does.
-    lights = [0] * slots
-    for first in opened:
-        for second in opened:
-            lights[first - second] += 1
-    return lights
+    return [opened for opened in combinations(range(slots), many) if opened_lights(opened, slots) == lights]
 
 
 def _turned_alike(slots, many, turn):

@@ -2,8 +2,8 @@
 
 import random
 
-from slitdiscs import discs, hidden, lights, reading, sums, twins
-from slitdiscs.errors import InvalidDisc, InvalidLights, InvalidNumber, InvalidRow, InvalidTurn
+from slitdiscs import discs, flat, hidden, laid, lights, reading, seen, sums, twins
+from slitdiscs.errors import InvalidDisc, InvalidLights, InvalidLooks, InvalidNumber, InvalidRow, InvalidTurn
 
 MOST = 10 ** 30
 NO_INTEGERS = [
@@ -15,6 +15,15 @@ NO_LIST_OF_SLOTS = [
     [], [0] * 41, ["x"] * 41, [None] * 1000,
 ]
 NO_LIGHTS = NO_INTEGERS + [-1, -MOST, MOST + 1, 10 ** 40]
+NO_LIST_OF_LOOKS = [
+    True, False, None, 0, 1, 1.5, "", "0=1", b"0=1", (), (0, 1), ((0, 1),), {}, {0: 1}, {(0, 1)}, object(),
+    [(0, 0)] * 41, ["x"] * 41, [None] * 1000,
+]
+NO_LOOKS = NO_INTEGERS + [
+    0, 1, -1, [0, 1], (0,), (0, 1, 2), (None,) * 3, ((0, 1),), ((0, 1), (0, 1)), (0, (1,)), ((0,), 1), "01", "0=1",
+    (0, -1), (0, -10 ** 50), (True, 1), (0, True), (False, False), (0.0, 1), (0, 1.0), ("0", 1), (0, "1"), (0, None),
+    (None, 0), ([0], 1), {0: 1, 1: 2}, range(2),
+]
 
 
 def wrong_discs():
@@ -50,18 +59,30 @@ def wrong_own_lights():
 
 
 def wrong_slotted():
-    """Return pairs of what is no slotted disc of up to 14 slots, and the index of the error."""
+    """Return pairs of what is no slotted disc, and the index of the error."""
     found = [(value, None) for value in NO_LIST_OF_SLOTS]
     for item in NO_INTEGERS + [-1, 2, MOST, MOST + 1, -MOST]:
         found += [([item], 0), ([item, 0, 1], 0), ([0, item, 1], 1), ([0, 1, item], 2)]
-    found += [([0] * 39 + [2], 39), ([1] * 14 + [2], 14), ([1, 0, 3, -1], 2)]
-    return found + [([0] * 15, None), ([1] * 15, None), ([0, 1] * 20, None)]
+    return found + [([0] * 39 + [2], 39), ([1] * 14 + [2], 14), ([1, 0, 3, -1], 2)]
 
 
-def wrong_short_discs():
-    """Return pairs of what is no disc of up to 12 slots, and the index of the error."""
-    long = [([0] * 13, None), ([MOST] * 13, None), ([1] * 40, None), ([0] * 12 + [-1], 12), ([1.0] + [0] * 12, 0)]
-    return wrong_discs() + long
+def wrong_short_slotted():
+    """Return pairs of what is no slotted disc of up to 14 slots, and the index of the error."""
+    return wrong_slotted() + [([0] * 15, None), ([1] * 15, None), ([0, 1] * 20, None)]
+
+
+def wrong_short_discs(most):
+    """Return pairs of what is no disc of up to so many slots, less than 40, and the index of the error."""
+    long = [([0] * (most + 1), None), ([MOST] * (most + 1), None), ([1] * 40, None)]
+    return wrong_discs() + long + [([0] * most + [-1], most), ([1.0] + [0] * most, 0)]
+
+
+def wrong_looks():
+    """Return pairs of what are no looks, and the index of the error."""
+    found = [(value, None) for value in NO_LIST_OF_LOOKS]
+    for item in NO_LOOKS:
+        found += [([item], 0), ([item, (0, 1)], 0), ([(0, 1), item, None], 1), ([(7, 0)] * 39 + [item], 39)]
+    return found
 
 
 def without_fields(values):
@@ -73,12 +94,19 @@ def without_fields(values):
 # (of a value that may be any one there are none).
 KINDS = {
     "disc": ([[5, 0, 2, 0]], InvalidDisc, wrong_discs()),
-    "short disc": ([[5, 0, 2, 0]], InvalidDisc, wrong_short_discs()),
-    "slotted disc": ([[1, 0, 1, 0], [0] * 14, [1] * 14, [1]], InvalidDisc, wrong_slotted()),
+    "short disc": ([[5, 0, 2, 0]], InvalidDisc, wrong_short_discs(12)),
+    "shorter disc": ([[5, 0, 2, 0]], InvalidDisc, wrong_short_discs(8)),
+    "slotted disc": ([[1, 0, 1, 0], [0] * 14, [1] * 14, [1]], InvalidDisc, wrong_short_slotted()),
+    "slotted disc of any slots": ([[1, 0, 1, 0], [0] * 40, [1] * 40, [1]], InvalidDisc, wrong_slotted()),
     "other": ([[1, 3, 0, 0], [0, 0, 0, 0]], InvalidDisc, wrong_others()),
+    "part": ([[1, 3, 0, 0], [0, 1, 0, 0]], InvalidDisc, wrong_others()),
     "row": ([[1, -3, 10 ** 50, 0]], InvalidRow, wrong_rows()),
     "lights": ([[5, 6, 2, 15], [-10 ** 50, 0, 1, -1], [0, 0, 0, 0]], InvalidLights, wrong_rows()),
     "own lights": ([[2, 0, 2, 0], [10 ** 50, 0], [0] * 14, [14] * 14], InvalidLights, wrong_own_lights()),
+    # Each of these fits [1, 0, 1, 0] over the disc.
+    "looks": ([[], [(0, 7), (-2, 7), (10 ** 39 + 1, 0)], [(2, 7)] * 40], InvalidLooks, wrong_looks()),
+    "index": ([0], InvalidNumber, without_fields(NO_INTEGERS + [-1, -16, 16, 10 ** 50, -10 ** 50])),
+    "factor": ([3, -1, 10 ** 39 + 1], InvalidNumber, without_fields(NO_INTEGERS + [0, 2, -2, 4, 6, 10 ** 39])),
     "any value": ([[1, 0, -1, 0], [0, 0, 0, 0], None, (0, 0, 0, 0)], None, []),
     "turn": ([0, -1, 6, 10 ** 39 + 1], InvalidTurn, without_fields(NO_INTEGERS)),
     "many": ([0, 3, 10 ** 39], InvalidNumber, without_fields(NO_INTEGERS + [-1, -10 ** 39])),
@@ -86,6 +114,9 @@ KINDS = {
     "slots": ([4, 14], InvalidNumber, without_fields(NO_INTEGERS + [0, -1, -4, 15, 40, 10 ** 39])),
     "many of 4": ([4, 0, 1], InvalidNumber, without_fields(NO_INTEGERS + [-1, 5, 14, -10 ** 39, 10 ** 39])),
 }
+
+# The kinds of a second disc that has as many slots as the first one.
+SAME_SLOTS = ("other", "part")
 
 # The functions that list errors for their arguments, with the names of these and their kinds.
 FUNCTIONS = [
@@ -121,6 +152,18 @@ FUNCTIONS = [
     (twins.disc_with, {"lights": "own lights"}),
     (twins.twin_count, {"slots": "slots", "many": "many of 4"}),
     (twins.form_count, {"slots": "slots", "many": "many of 4"}),
+    (laid.laid_disc, {"disc": "disc", "other": "other"}),
+    (laid.shut_disc, {"disc": "slotted disc of any slots"}),
+    (laid.other_part, {"disc": "disc", "part": "part"}),
+    (laid.multiplied_disc, {"disc": "disc", "factor": "factor"}),
+    (flat.is_flat, {"disc": "disc"}),
+    (flat.flat_discs, {"slots": "slots", "many": "many of 4"}),
+    (flat.flat_turns, {"disc": "disc"}),
+    (seen.fits_count, {"disc": "short disc", "looks": "looks"}),
+    (seen.nth_fit, {"disc": "short disc", "looks": "looks", "index": "index"}),
+    (seen.sure_slots, {"disc": "short disc", "looks": "looks"}),
+    (seen.clash_index, {"disc": "short disc", "looks": "looks"}),
+    (seen.telling_turns, {"disc": "shorter disc", "looks": "looks"}),
 ]
 
 

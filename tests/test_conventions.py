@@ -4,7 +4,7 @@ import copy
 import inspect
 import unittest
 
-from slitdiscs import discs, hidden, lights, reading, sums, twins
+from slitdiscs import discs, flat, hidden, laid, lights, reading, seen, sums, twins
 from tests.samples import FUNCTIONS, right_calls
 
 INTERFACE = {
@@ -34,6 +34,15 @@ INTERFACE = {
     twins: {
         "own_lights": ["disc"], "are_twins": ["disc", "other"], "twin_discs": ["disc"], "disc_with": ["lights"],
         "twin_count": ["slots", "many"], "form_count": ["slots", "many"],
+    },
+    laid: {
+        "laid_disc": ["disc", "other"], "shut_disc": ["disc"], "other_part": ["disc", "part"],
+        "multiplied_disc": ["disc", "factor"],
+    },
+    flat: {"is_flat": ["disc"], "flat_discs": ["slots", "many"], "flat_turns": ["disc"]},
+    seen: {
+        "fits_count": ["disc", "looks"], "nth_fit": ["disc", "looks", "index"], "sure_slots": ["disc", "looks"],
+        "clash_index": ["disc", "looks"], "telling_turns": ["disc", "looks"],
     },
 }
 
@@ -65,6 +74,25 @@ LISTS = [
     (twins.disc_with, [[1]]),
     (twins.disc_with, [[0, 0]]),
     (twins.disc_with, [[2, 0, 2, 0]]),
+    (laid.laid_disc, [[1, 0, 0], [1, 0, 0]]),
+    (laid.laid_disc, [[1], [1]]),
+    (laid.shut_disc, [[1, 0]]),
+    (laid.other_part, [[1, 0], [1, 0]]),
+    (laid.other_part, [[1], [1]]),
+    (laid.multiplied_disc, [[5, 7, 9], 1]),
+    (laid.multiplied_disc, [[5], 0]),
+    (flat.flat_discs, [13, 4]),
+    (flat.flat_discs, [1, 0]),
+    (flat.flat_discs, [4, 2]),
+    (flat.flat_turns, [[3]]),
+    (flat.flat_turns, [[1, 1, 0, 0]]),
+    (seen.nth_fit, [[1, 1, 0, 1], [(0, 2)], 5]),
+    (seen.nth_fit, [[1], [], 0]),
+    (seen.sure_slots, [[1, 1, 0, 1], [(0, 3)]]),
+    (seen.sure_slots, [[1, 1, 0, 1], []]),
+    (seen.telling_turns, [[1, 1, 0, 1], []]),
+    (seen.telling_turns, [[1, 1, 0, 1], [(0, 2), (1, 3)]]),
+    (seen.telling_turns, [[1, 0, 0, 0], []]),
 ]
 
 
@@ -124,12 +152,12 @@ class ConventionTest(unittest.TestCase):
                 found = function(*arguments)
                 if not isinstance(found, list):
                     continue
-                kept = list(found)
+                kept, before = list(found), copy.deepcopy(arguments)
                 self.assertFalse(any(found is value for value in arguments))
                 found.insert(0, "changed")
                 found.append("more")
                 self.assertEqual(function(*arguments), kept)
-                self.assertNotIn("changed", arguments[0])
+                self.assertEqual(arguments, before)
 
     def test_all_lists_of_an_answer_are_new(self):
         for function, arguments in LISTS:
@@ -179,7 +207,7 @@ class ConventionTest(unittest.TestCase):
             discs.is_disc(disc), discs.is_slotted(disc), discs.are_like(disc, other), hidden.is_telling(disc),
             hidden.is_telling([0]), hidden.is_hidden(disc, disc), hidden.is_hidden(disc, None),
             hidden.is_hidden(disc, [0, 0, 0, 0]), sums.is_sure(disc, [-1, 0, 0, 0]), sums.is_sure([0], [1]),
-            sums.alike_lights(disc, other), twins.are_twins(disc, other),
+            sums.alike_lights(disc, other), twins.are_twins(disc, other), flat.is_flat(disc), flat.is_flat([0]),
         ]
         for value in truths:
             self.assertIs(type(value), bool)
@@ -187,6 +215,10 @@ class ConventionTest(unittest.TestCase):
             discs.disc_period(disc), discs.turn_between(disc, other), lights.light_at(disc, other, 1),
             lights.light_sum(disc, other, 0, 1, 0), lights.first_bright(disc, other, 0, 1, 0),
             hidden.hidden_count(disc), hidden.hidden_count([0]), twins.twin_count(4, 2), twins.form_count(4, 2),
+            seen.fits_count(disc, []), seen.clash_index(disc, [(0, 1)]), *laid.laid_disc(disc, other),
+            *laid.shut_disc([0, 1]), *laid.other_part(disc, [1, 0, 0, 0]), *laid.multiplied_disc(disc, 3),
+            *flat.flat_turns(disc), *flat.flat_discs(3, 1)[0], *seen.nth_fit(disc, [], 3),
+            *seen.telling_turns([1, 0], []),
         ]
         for value in numbers:
             self.assertIs(type(value), int)
@@ -194,5 +226,10 @@ class ConventionTest(unittest.TestCase):
         top, under = sums.read_sum(disc, [1, 2, 3, 4], [1, 0, 0, 0])
         for value in [bottom, top, under, *row, *sums.sure_rows(disc)[0], *twins.own_lights(disc)]:
             self.assertIs(type(value), int)
+        slots = seen.sure_slots(disc, [(0, 7), (1, 0)])
+        self.assertEqual([type(item) for item in slots], [tuple] * 4)
+        for slot, item in slots:
+            self.assertIs(type(slot), int)
+            self.assertIs(type(item), int)
         self.assertIs(type(reading.reading_row(disc)), tuple)
         self.assertIs(type(sums.read_sum(disc, [1, 2, 3, 4], [1, 0, 0, 0])), tuple)

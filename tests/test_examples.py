@@ -111,6 +111,55 @@ COUNTS = """
 raises InvalidNumber
 """
 
+LAID = """
+>>> from slitdiscs.laid import laid_disc, multiplied_disc, other_part, shut_disc
+>>> laid_disc([1, 2, 0], [1, 0, 3]), shut_disc([1, 1, 0, 1])
+([7, 2, 3], [0, 0, 1, 0])
+>>> other_part([7, 2, 3], [1, 2, 0]), other_part([2, 0, 0], [1, 1, 0]), other_part([1, 0, 0], [1, 2, 0])
+([1, 0, 3], [1, -1, 1], None)
+>>> multiplied_disc([1, 1, 0, 1, 0, 0, 0], 3), multiplied_disc([5, 7, 9], -1), multiplied_disc([4], 10 ** 30)
+([1, 0, 1, 1, 0, 0, 0], [5, 9, 7], [4])
+>>> other_part([1, 0, 0, 0], [1, 0, 1, 0])
+raises Impossible
+
+>>> from slitdiscs.laid import multiplied_disc
+>>> multiplied_disc([1, 0, 0, 0], 6)
+raises InvalidNumber
+"""
+
+FLAT = """
+>>> from slitdiscs.flat import flat_discs, flat_turns, is_flat
+>>> [is_flat(disc) for disc in ([1, 1, 0, 1, 0, 0, 0], [1, 1, 0, 0], [1, 1, 1], [0, 7, 0], [2, 5])]
+[True, False, True, True, True]
+>>> flat_discs(7, 3), flat_discs(7, 4), flat_discs(4, 2), flat_discs(4, 1)
+([[0, 0, 0, 1, 0, 1, 1]], [[0, 0, 1, 0, 1, 1, 1]], [], [[0, 0, 0, 1]])
+>>> flat_turns([1, 1, 0, 1, 0, 0, 0]), flat_turns([1, 1, 0, 0]), flat_turns([5, 7, 9]), flat_turns([3])
+([1, 2, 4], [1, 3], [1], [1])
+"""
+
+SEEN = """
+>>> from slitdiscs.seen import clash_index, fits_count, nth_fit, sure_slots
+>>> disc = [1, 1, 0, 1]
+>>> [fits_count(disc, looks) for looks in ([], [(0, 2)], [(0, 2), (5, 3)], [(0, 3), (1, 0)])]
+[16, 6, 1, 0]
+>>> [nth_fit(disc, [(0, 2)], index) for index in (0, 1, 5)], nth_fit(disc, [(0, 2), (1, 3)], 0)
+([[0, 1, 0, 1], [0, 1, 1, 1], [1, 1, 1, 0]], [1, 0, 1, 1])
+>>> [sure_slots(disc, looks) for looks in ([(0, 3)], [(0, 2)], [(0, 2), (1, 3)])]
+[[(0, 1), (1, 1), (3, 1)], [], [(0, 1), (1, 0), (2, 1), (3, 1)]]
+>>> [clash_index(disc, looks) for looks in ([(0, 2)], [(0, 3), (1, 0)], [(0, 4)])]
+[None, 1, 0]
+>>> sure_slots(disc, [(0, 4)])
+raises Impossible
+"""
+
+TELLING = """
+>>> from slitdiscs.seen import telling_turns
+>>> [telling_turns([1, 1, 0, 1], looks) for looks in ([], [(0, 3)], [(0, 2), (1, 3)])], telling_turns([1, 0, 1, 0], [])
+([[0, 1, 2], [1], []], None)
+>>> telling_turns([1, 1, 0, 1], [(0, 4)])
+raises Impossible
+"""
+
 
 def answer(source, names):
     """Return what is printed for a line: an answer, `raises ..`, or nothing for a statement."""
@@ -162,6 +211,18 @@ class ExampleTest(unittest.TestCase):
 
     def test_counts(self):
         self.check(COUNTS)
+
+    def test_laid(self):
+        self.check(LAID)
+
+    def test_flat(self):
+        self.check(FLAT)
+
+    def test_seen(self):
+        self.check(SEEN)
+
+    def test_telling(self):
+        self.check(TELLING)
 
     def test_readme(self):
         readme = pathlib.Path(__file__).resolve().parent.parent / "README.md"
