@@ -2,7 +2,9 @@
 
 from math import gcd
 
-from slitdiscs.errors import InvalidDisc, InvalidLights, InvalidLooks, InvalidNumber, InvalidRow, InvalidTurn
+from slitdiscs.errors import (
+    InvalidDisc, InvalidLights, InvalidLooks, InvalidNumber, InvalidRow, InvalidSlot, InvalidTurn,
+)
 
 MOST_SLOTS = 40
 MOST_LIGHT = 10 ** 30
@@ -95,7 +97,12 @@ def check_row(row, slots):
 
 def check_lights(lights, slots):
     """Raise InvalidLights unless the value is a list of so many integers."""
-    if not isinstance(lights, list) or len(lights) != slots:
+    check_so_many_lights(lights, slots, slots)
+
+
+def check_so_many_lights(lights, least, most):
+    """Raise InvalidLights unless the value is a list of integers, from the least number of them to the most."""
+    if not isinstance(lights, list) or not least <= len(lights) <= most:
         raise InvalidLights(None)
     index = wrong_integer(lights)
     if index is not None:
@@ -124,6 +131,12 @@ def check_turn(turn):
     """Raise InvalidTurn unless the value is an integer."""
     if not is_integer(turn):
         raise InvalidTurn("a turn is an integer")
+
+
+def check_slot(slot, slots):
+    """Raise InvalidSlot unless a disc of so many slots has the value as a slot."""
+    if not is_integer(slot) or not 0 <= slot < slots:
+        raise InvalidSlot("a slot is an integer from 0 to the number of slots less 1")
 
 
 def check_number(number):

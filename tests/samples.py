@@ -2,8 +2,10 @@
 
 import random
 
-from slitdiscs import discs, flat, hidden, laid, lights, reading, seen, sums, twins
-from slitdiscs.errors import InvalidDisc, InvalidLights, InvalidLooks, InvalidNumber, InvalidRow, InvalidTurn
+from slitdiscs import discs, flat, hidden, laid, lights, reading, rings, seen, sums, texts, twins
+from slitdiscs.errors import (
+    InvalidDisc, InvalidLights, InvalidLooks, InvalidNumber, InvalidRow, InvalidSyntax, InvalidTurn,
+)
 
 MOST = 10 ** 30
 NO_INTEGERS = [
@@ -15,10 +17,7 @@ NO_LIST_OF_SLOTS = [
     [], [0] * 41, ["x"] * 41, [None] * 1000,
 ]
 NO_LIGHTS = NO_INTEGERS + [-1, -MOST, MOST + 1, 10 ** 40]
-NO_LIST_OF_LOOKS = [
-    True, False, None, 0, 1, 1.5, "", "0=1", b"0=1", (), (0, 1), ((0, 1),), {}, {0: 1}, {(0, 1)}, object(),
-    [(0, 0)] * 41, ["x"] * 41, [None] * 1000,
-]
+NO_LIST = [True, False, None, 0, 1, 1.5, "", "0=1", b"0=1", (), (0, 1), ((0, 1),), {}, {0: 1}, {(0, 1)}, object()]
 NO_LOOKS = NO_INTEGERS + [
     0, 1, -1, [0, 1], (0,), (0, 1, 2), (None,) * 3, ((0, 1),), ((0, 1), (0, 1)), (0, (1,)), ((0,), 1), "01", "0=1",
     (0, -1), (0, -10 ** 50), (True, 1), (0, True), (False, False), (0.0, 1), (0, 1.0), ("0", 1), (0, "1"), (0, None),
@@ -79,10 +78,38 @@ def wrong_short_discs(most):
 
 def wrong_looks():
     """Return pairs of what are no looks, and the index of the error."""
-    found = [(value, None) for value in NO_LIST_OF_LOOKS]
+    found = [(value, None) for value in NO_LIST + [[(0, 0)] * 41, ["x"] * 41, [None] * 1000]]
     for item in NO_LOOKS:
         found += [([item], 0), ([item, (0, 1)], 0), ([(0, 1), item, None], 1), ([(7, 0)] * 39 + [item], 39)]
     return found
+
+
+def wrong_ring_lights():
+    """Return pairs of what is no list of 1 to 1600 lights, and the index of the error."""
+    found = [(value, None) for value in NO_LIST + [[], [0] * 1601, ["x"] * 1601]]
+    for item in NO_INTEGERS:
+        found += [([item], 0), ([0, item, None], 1), ([-1, 10 ** 50, item], 2)]
+    return found + [([0] * 1599 + [True], 1599), ([-5, None] + [0] * 1598, 1)]
+
+
+def wrong_words(right, wrong):
+    """Return pairs of what is no text and the index of the word, of words that can stand there and others."""
+    found = [(value, None) for value in NO_INTEGERS + [0, 7, b"0 1", ["0"], [0, 1]] if not isinstance(value, str)]
+    for word in wrong:
+        found += [(f"{word} {right}", 0), (f"{right} {word}", 1), (f"{right} {right} {word} {word}", 2)]
+        found += [(" ".join([right] * 39 + [word]), 39)]
+    found += [(" ".join([right] * 41), 40), (" ".join([right] * 45 + ["x"]), 40), (" ".join(["x"] * 41), 0)]
+    found += [(" " * 10000, 0), (right + " " * 9000, 1), ("x" * 10000, 0), (" ".join([right] * 2500)[:10000], 40)]
+    return found
+
+
+NO_NUMBERS = [
+    "", "-", "--1", "-0", "+1", "00", "01", "-01", "1_0", "1.0", "1e3", "0x1", "x", "1-", "1,", "1\n", "\n1", "\n",
+    "1\n2", "1" + "0" * 40, "-1" + "0" * 40, "0" * 40, "True", "None", "1=1=1", "- 1", "~", "/", "\u00b2", "\u0663",
+]
+NO_SLOTS = NO_NUMBERS + ["-1", "1=1", str(MOST + 1), "9" * 40]
+NO_TURNS = [f"{word}=1" for word in NO_NUMBERS if " " not in word and "=" not in word]
+NO_SEEN = [f"1={word}" for word in NO_NUMBERS if " " not in word] + ["1=-1", "-5=-5"]
 
 
 def without_fields(values):
@@ -114,6 +141,15 @@ KINDS = {
     "slots": ([4, 14], InvalidNumber, without_fields(NO_INTEGERS + [0, -1, -4, 15, 40, 10 ** 39])),
     "many of 4": ([4, 0, 1], InvalidNumber, without_fields(NO_INTEGERS + [-1, 5, 14, -10 ** 39, 10 ** 39])),
 }
+
+KINDS.update({
+    "ring": ([[1, 3, 0, 0], [1], [0] * 40], InvalidDisc, wrong_discs()),
+    "tick": ([0, 3, 10 ** 39], InvalidNumber, without_fields(NO_INTEGERS + [-1, -10 ** 39])),
+    "ring lights": ([[5], [0, -5, 10 ** 50], [0] * 1600], InvalidLights, wrong_ring_lights()),
+    "disc text": (["0 1 1 12", "0", str(MOST)], InvalidSyntax, [("", 0), *wrong_words("1", NO_SLOTS)]),
+    "row text": (["2 -1 0", "-5", "9" * 40], InvalidSyntax, [("", 0), *wrong_words("-1", NO_NUMBERS + ["1=1"])]),
+    "looks text": (["0=3 -5=1", "", "-7=0"], InvalidSyntax, wrong_words("-1=2", NO_NUMBERS + NO_TURNS + NO_SEEN)),
+})
 
 # The kinds of a second disc that has as many slots as the first one.
 SAME_SLOTS = ("other", "part")
@@ -164,6 +200,15 @@ FUNCTIONS = [
     (seen.sure_slots, {"disc": "short disc", "looks": "looks"}),
     (seen.clash_index, {"disc": "short disc", "looks": "looks"}),
     (seen.telling_turns, {"disc": "shorter disc", "looks": "looks"}),
+    (rings.ring_light, {"disc": "disc", "other": "ring", "tick": "tick"}),
+    (rings.ring_sum, {"disc": "disc", "other": "ring", "first": "tick", "many": "tick"}),
+    (rings.first_tick, {"disc": "disc", "other": "ring", "first": "tick", "light": "light"}),
+    (rings.dark_stretch, {"disc": "disc", "other": "ring"}),
+    (rings.tick_of, {"disc": "disc", "other": "ring", "lights": "ring lights"}),
+    (rings.unlike_ticks, {"disc": "disc", "other": "ring"}),
+    (texts.parse_disc, {"text": "disc text"}),
+    (texts.parse_row, {"text": "row text"}),
+    (texts.parse_looks, {"text": "looks text"}),
 ]
 
 

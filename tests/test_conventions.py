@@ -4,7 +4,9 @@ import copy
 import inspect
 import unittest
 
-from slitdiscs import discs, flat, hidden, laid, lights, reading, seen, sums, twins
+from slitdiscs import discs, flat, hidden, laid, lights, reading, rings, seen, sums, texts, twins
+from slitdiscs.console import Console
+from slitdiscs.live import LiveDiscs
 from tests.samples import FUNCTIONS, right_calls
 
 INTERFACE = {
@@ -44,7 +46,25 @@ INTERFACE = {
         "fits_count": ["disc", "looks"], "nth_fit": ["disc", "looks", "index"], "sure_slots": ["disc", "looks"],
         "clash_index": ["disc", "looks"], "telling_turns": ["disc", "looks"],
     },
+    rings: {
+        "ring_light": ["disc", "other", "tick"], "ring_sum": ["disc", "other", "first", "many"],
+        "first_tick": ["disc", "other", "first", "light"], "dark_stretch": ["disc", "other"],
+        "tick_of": ["disc", "other", "lights"], "unlike_ticks": ["disc", "other"],
+    },
+    texts: {
+        "format_disc": ["disc"], "format_row": ["row"], "format_looks": ["looks"],
+        "parse_disc": ["text"], "parse_row": ["text"], "parse_looks": ["text"],
+    },
 }
+METHODS = {
+    LiveDiscs: {
+        "__init__": ["disc", "other"], "turn_by": ["turn"], "set_slot": ["slot", "light"], "mirror_other": [],
+        "undo": [], "fork": [], "__len__": [], "__eq__": ["other"],
+    },
+    Console: {"__init__": [], "execute": ["command"]},
+}
+PROPERTIES = ["disc", "other", "turn", "light", "log"]
+WITHOUT_ERRORS = {"is_disc", "is_slotted", "format_disc", "format_row", "format_looks"}
 
 # Functions with lists in their answers, and calls of them that return some.
 LISTS = [
@@ -93,6 +113,10 @@ LISTS = [
     (seen.telling_turns, [[1, 1, 0, 1], []]),
     (seen.telling_turns, [[1, 1, 0, 1], [(0, 2), (1, 3)]]),
     (seen.telling_turns, [[1, 0, 0, 0], []]),
+    (texts.parse_disc, ["0 1 1 12"]),
+    (texts.parse_row, ["2 -1 0"]),
+    (texts.parse_looks, ["0=3 -5=1"]),
+    (texts.parse_looks, [""]),
 ]
 
 
@@ -117,7 +141,18 @@ class InterfaceTest(unittest.TestCase):
     def test_all_functions_with_errors_are_in_the_table(self):
         named = {name for functions in INTERFACE.values() for name in functions}
         tested = {function.__name__ for function, _ in FUNCTIONS}
-        self.assertEqual(named - tested, {"is_disc", "is_slotted"})
+        self.assertEqual(named - tested, WITHOUT_ERRORS)
+
+    def test_each_method_stands_in_its_class(self):
+        for made, methods in METHODS.items():
+            for name, arguments in methods.items():
+                with self.subTest(made.__name__, name=name):
+                    method = vars(made)[name]
+                    self.assertEqual(list(inspect.signature(method).parameters)[1:], arguments)
+                    self.assertEqual(method.__module__, made.__module__)
+        self.assertEqual([LiveDiscs.__module__, Console.__module__], ["slitdiscs.live", "slitdiscs.console"])
+        for name in PROPERTIES:
+            self.assertIsInstance(vars(LiveDiscs)[name], property)
 
 
 class ConventionTest(unittest.TestCase):
@@ -130,6 +165,14 @@ class ConventionTest(unittest.TestCase):
         self.assertIs(discs.is_disc(value=[1]), True)
         self.assertIs(discs.is_slotted(value=[2]), False)
         self.assertIs(hidden.is_hidden(value=[1, 0, -1, 0], disc=[1, 0, 1, 0]), True)
+        self.assertEqual(texts.format_disc(disc=[1, 0]), "1 0")
+        self.assertEqual(texts.format_row(row=[-1, 0]), "-1 0")
+        self.assertEqual(texts.format_looks(looks=[(-1, 0)]), "-1=0")
+        live = LiveDiscs(other=[3, 1, 0], disc=[1, 0, 2])
+        live.turn_by(turn=1)
+        live.set_slot(light=5, slot=1)
+        self.assertEqual([live.disc, live.other, live.turn], [[1, 0, 2], [3, 5, 0], 1])
+        self.assertEqual(Console().execute(command="light"), "1")
 
     def test_arguments_stay_as_they_are(self):
         for function, arguments in right_calls():
@@ -145,6 +188,9 @@ class ConventionTest(unittest.TestCase):
             discs.is_slotted(value)
             hidden.is_hidden([1, 0, 1], value)
             self.assertEqual(value, before)
+        disc, row, looks = [1, 0, 5], [-1, 0, 10 ** 50], [(-1, 5), (0, 0)]
+        texts.format_disc(disc), texts.format_row(row), texts.format_looks(looks)
+        self.assertEqual([disc, row, looks], [[1, 0, 5], [-1, 0, 10 ** 50], [(-1, 5), (0, 0)]])
 
     def test_returned_lists_are_new(self):
         for function, arguments in right_calls():
@@ -218,7 +264,9 @@ class ConventionTest(unittest.TestCase):
             seen.fits_count(disc, []), seen.clash_index(disc, [(0, 1)]), *laid.laid_disc(disc, other),
             *laid.shut_disc([0, 1]), *laid.other_part(disc, [1, 0, 0, 0]), *laid.multiplied_disc(disc, 3),
             *flat.flat_turns(disc), *flat.flat_discs(3, 1)[0], *seen.nth_fit(disc, [], 3),
-            *seen.telling_turns([1, 0], []),
+            *seen.telling_turns([1, 0], []), rings.ring_light(disc, [1], 2), rings.ring_sum(disc, [1], 0, 0),
+            rings.first_tick(disc, [1], 1, 1), rings.dark_stretch(disc, [1]), rings.tick_of(disc, [1], [0]),
+            rings.unlike_ticks(disc, [1]), *texts.parse_disc("0 1"), *texts.parse_row("-1"), *texts.parse_looks("0=1")[0],
         ]
         for value in numbers:
             self.assertIs(type(value), int)
@@ -226,6 +274,7 @@ class ConventionTest(unittest.TestCase):
         top, under = sums.read_sum(disc, [1, 2, 3, 4], [1, 0, 0, 0])
         for value in [bottom, top, under, *row, *sums.sure_rows(disc)[0], *twins.own_lights(disc)]:
             self.assertIs(type(value), int)
+        self.assertIs(type(texts.parse_looks("0=1")[0]), tuple)
         slots = seen.sure_slots(disc, [(0, 7), (1, 0)])
         self.assertEqual([type(item) for item in slots], [tuple] * 4)
         for slot, item in slots:

@@ -160,6 +160,88 @@ TELLING = """
 raises Impossible
 """
 
+RINGS = """
+>>> from slitdiscs.rings import dark_stretch, first_tick, ring_light, ring_sum, tick_of, unlike_ticks
+>>> disc, other = [1, 0, 2], [1, 1, 0, 0]
+>>> [ring_light(disc, other, tick) for tick in range(12)], ring_light(disc, other, 12 * 10 ** 30 + 5)
+([1, 0, 0, 0, 0, 2, 0, 0, 2, 1, 0, 0], 2)
+>>> ring_sum(disc, other, 0, 12), ring_sum(disc, other, 5, 10 ** 30), [first_tick(disc, other, first, 2) for first in (0, 6, 9)], first_tick(disc, other, 0, 3)
+(6, 500000000000000000000000000002, [5, 8, 17], None)
+>>> dark_stretch(disc, other), dark_stretch([1], [1, 2]), dark_stretch([1, 0], [0, 1])
+(4, 0, None)
+>>> [tick_of(disc, other, lights) for lights in ([2], [2, 1], [0, 0, 2], [0, 0, 0, 0], [2, 2])], unlike_ticks(disc, other)
+([5, 8, 3, 1, None], 4)
+>>> unlike_ticks([1, 0], [0, 1]), unlike_ticks([5], [7]), unlike_ticks([1, 2], [1, 1, 1])
+(None, 1, None)
+"""
+
+LIVE = """
+>>> from slitdiscs.live import LiveDiscs
+>>> live = LiveDiscs([1, 1, 0, 1, 0, 0, 0], [1, 0, 0, 0, 0, 0, 0])
+>>> [live.disc, live.other, live.turn, live.light, live.log, len(live)]
+[[1, 1, 0, 1, 0, 0, 0], [1, 0, 0, 0, 0, 0, 0], 0, 1, [], 0]
+>>> [live.turn_by(2), live.light, live.turn_by(-13), live.turn, live.light]
+[None, 0, None, 3, 1]
+>>> [live.set_slot(4, 5), live.other, live.light]
+[None, [1, 0, 0, 0, 5, 0, 0], 6]
+>>> [live.mirror_other(), live.other, live.light, live.undo(), live.other, len(live)]
+[None, [1, 0, 0, 5, 0, 0, 0], 1, None, [1, 0, 0, 0, 5, 0, 0], 3]
+>>> two = live.fork()
+>>> [two == live, two.turn_by(4), two.turn, live.turn, two == live]
+[True, None, 0, 3, False]
+>>> live.log
+[('turn', 2), ('turn', -13), ('slot', 4, 5)]
+>>> live.set_slot(7, 1)
+raises InvalidSlot
+
+>>> from slitdiscs.live import LiveDiscs
+>>> LiveDiscs([1, 0], [1])
+raises InvalidDisc(index=None)
+
+>>> from slitdiscs.live import LiveDiscs
+>>> LiveDiscs([1], [0]).undo()
+raises NothingToUndo
+"""
+
+FORMATS = """
+>>> from slitdiscs.texts import format_disc, format_looks, format_row
+>>> format_disc([0, 1, 1, 12]), format_row([2, -1, 0]), format_looks([(0, 3), (-5, 1)]), format_looks([])
+('0 1 1 12', '2 -1 0', '0=3 -5=1', '')
+"""
+
+PARSES = """
+>>> from slitdiscs.texts import parse_disc, parse_looks, parse_row
+>>> parse_disc("0 1 1 12"), parse_row("2 -1 0"), parse_looks("0=3 -5=1"), parse_looks("")
+([0, 1, 1, 12], [2, -1, 0], [(0, 3), (-5, 1)], [])
+>>> parse_disc("1 -1")
+raises InvalidSyntax(word=1)
+>>> parse_looks("0=3 5=-1")
+raises InvalidSyntax(word=1)
+>>> parse_row("")
+raises InvalidSyntax(word=0)
+"""
+
+CONSOLE = """
+>>> from slitdiscs.console import Console
+>>> console = Console()
+>>> [console.execute(command) for command in ["light", "disc 1 1 0 1 0 0 0", "light", "own", "reading", "blind"]]
+['1', 'ok', '3', '3 1 1 1 1 1 1', '2 2 -1 2 -1 -1 -1 / 6', 'none']
+>>> [console.execute(command) for command in ["other 1 0 0 0 0 0 0", "turn 3", "light", "slot 4 5", "light", "lights", "bright"]]
+['ok', 'ok', '1', 'ok', '6', '1 1 0 6 5 0 5', '3']
+>>> [console.execute(command) for command in ["mirror", "light", "undo", "undo", "light", "hidden"]]
+['ok', '1', 'ok', 'ok', '1', '0']
+>>> [console.execute(command) for command in ["disc 1 0 1 0", "blind", "hidden", "reading", "own"]]
+['ok', '4', '2', 'none', '2 0 2 0']
+
+>>> from slitdiscs.console import Console
+>>> Console().execute("slot 1 1")
+raises InvalidSlot
+
+>>> from slitdiscs.console import Console
+>>> Console().execute("turn x")
+raises InvalidCommand
+"""
+
 
 def answer(source, names):
     """Return what is printed for a line: an answer, `raises ..`, or nothing for a statement."""
@@ -223,6 +305,21 @@ class ExampleTest(unittest.TestCase):
 
     def test_telling(self):
         self.check(TELLING)
+
+    def test_rings(self):
+        self.check(RINGS)
+
+    def test_live(self):
+        self.check(LIVE)
+
+    def test_formats(self):
+        self.check(FORMATS)
+
+    def test_parses(self):
+        self.check(PARSES)
+
+    def test_console(self):
+        self.check(CONSOLE)
 
     def test_readme(self):
         readme = pathlib.Path(__file__).resolve().parent.parent / "README.md"

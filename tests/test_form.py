@@ -40,7 +40,8 @@ class FormTest(unittest.TestCase):
                 tree = ast.parse(path.read_text())
                 compile(tree, str(path), "exec")
             for node in ast.walk(tree):
-                self.assertNotIsInstance(node, (ast.Import, ast.AsyncFunctionDef, ast.Div))
+                # A class has an __eq__, so a list stands where a generator expression might.
+                self.assertNotIsInstance(node, (ast.Import, ast.AsyncFunctionDef, ast.Div, ast.GeneratorExp))
                 if isinstance(node, ast.FunctionDef):
                     self.assertLessEqual(node.end_lineno - node.lineno + 1, 40, (path, node.name))
                 if isinstance(node, ast.Constant):
